@@ -23,7 +23,12 @@ func New(table string, o api.Options) (*Collator, int, api.Errno) {
 }
 
 // Normal tells the runes that a text is made of (P6).
-func (c *Collator) Normal(s string) ([]int, api.Errno) { return nil, api.OK }
+func (c *Collator) Normal(s string) ([]int, api.Errno) {
+	if len(s) > api.MaxText {
+		return nil, api.ErrLong
+	}
+	return c.nodes.normalForm(s), api.OK
+}
 
 // Elements tells the elements of a text (P7).
 func (c *Collator) Elements(s string) ([]api.Element, api.Errno) { return nil, api.OK }

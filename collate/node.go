@@ -23,6 +23,8 @@ type rank struct {
 	class int
 }
 
+func (r rank) isMark() bool { return r.class != 0 }
+
 // makeup is what a line d says.
 type makeup struct {
 	parts []int

@@ -80,7 +80,7 @@ func (d *draft) readRank(words []string) {
 	refuse(len(words) != 2, api.ErrLine)
 	name, class := readRune(words[0]), readClass(words[1])
 	n := d.nodes[name]
-	refuse(n.class != 0, api.ErrTwice)
+	refuse(n.isMark(), api.ErrTwice)
 	n.class = class
 	d.nodes[name] = n
 }
