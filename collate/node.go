@@ -37,11 +37,18 @@ type weighing struct {
 	sequences []sequence
 }
 
-func (w weighing) has(runes []int) bool {
-	return slices.ContainsFunc(w.sequences, func(s sequence) bool {
-		return slices.Equal(s.runes, runes)
-	})
+// of answers nothing where the runes are no sequence: each has an element at
+// least.
+func (w weighing) of(runes []int) []api.Element {
+	for _, s := range w.sequences {
+		if slices.Equal(s.runes, runes) {
+			return s.elements
+		}
+	}
+	return nil
 }
+
+func (w weighing) has(runes []int) bool { return len(w.of(runes)) > 0 }
 
 // sequence is runes that are weighed together.
 type sequence struct {

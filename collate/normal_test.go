@@ -11,7 +11,12 @@ import (
 
 func mustNew(t *testing.T, table string) *Collator {
 	t.Helper()
-	c, line, e := New(table, api.Options{Strength: 3})
+	return mustNewWith(t, table, api.Options{Strength: 3})
+}
+
+func mustNewWith(t *testing.T, table string, o api.Options) *Collator {
+	t.Helper()
+	c, line, e := New(table, o)
 	if c == nil {
 		t.Fatalf("P5: New(%q) = %d, %d", table, line, e)
 	}
@@ -189,6 +194,13 @@ func TestBrokenBytes(t *testing.T) {
 	})
 }
 
+func longTexts() []string {
+	return []string{
+		strings.Repeat("a", 65), strings.Repeat("á", 32) + "a", strings.Repeat("\U0010ffff", 17),
+		strings.Repeat("\xff", 65), strings.Repeat("\x00", 66), strings.Repeat("a", 1<<20),
+	}
+}
+
 func TestTextLength(t *testing.T) {
 	c := mustNew(t, exampleTable+"d 31 32 32\nd 32 33 33\nd 33 34 34\nd 34 301 323\nc 323 dc\n")
 	checkNormal(t, "P6: 64 bytes", c, []normal{
@@ -198,10 +210,7 @@ func TestTextLength(t *testing.T) {
 		{strings.Repeat("1", 64), slices.Concat(slices.Repeat([]int{0x323}, 512), slices.Repeat([]int{0x301}, 512))},
 		{strings.Repeat("a", 63), slices.Repeat([]int{0x61}, 63)},
 	})
-	for _, s := range []string{
-		strings.Repeat("a", 65), strings.Repeat("á", 32) + "a", strings.Repeat("\U0010ffff", 17),
-		strings.Repeat("\xff", 65), strings.Repeat("\x00", 66), strings.Repeat("a", 1<<20),
-	} {
+	for _, s := range longTexts() {
 		if l, e := c.Normal(s); len(l) != 0 || e != api.ErrLong {
 			t.Errorf("P6, P1: %d bytes: %x, %d, want ErrLong", len(s), l, e)
 		}
@@ -219,11 +228,39 @@ func TestNormalHasNoOptions(t *testing.T) {
 }
 
 // spoil writes behind a list, then over it and all its spare room.
-func spoil(l []int) {
-	_ = append(l, 7)
+func spoil[T any](l []T, trash T) {
+	_ = append(l, trash)
 	whole := l[:cap(l)]
 	for i := range whole {
-		whole[i] = 7
+		whole[i] = trash
+	}
+}
+
+// checkNewMemory asks twice for each text, then spoils one answer after the
+// other, and looks whether that shows in those that are not spoilt yet.
+func checkNewMemory[T comparable](t *testing.T, trash T, texts []string, ask func(s string) []T) {
+	t.Helper()
+	var answers, wants [][]T
+	for _, s := range slices.Concat(texts, texts) {
+		l := ask(s)
+		answers = append(answers, l)
+		wants = append(wants, slices.Clone(l))
+	}
+	for i, l := range answers {
+		spoil(l, trash)
+		for k := i + 1; k < len(answers); k++ {
+			if !slices.Equal(answers[k], wants[k]) {
+				t.Errorf("P2: answer %d is %v, want %v, after answer %d was written into", k, answers[k], wants[k], i)
+			}
+			if slices.Contains(answers[k][:cap(answers[k])], trash) {
+				t.Errorf("P2: the spare room of answer %d is that of answer %d", k, i)
+			}
+		}
+	}
+	for i, s := range texts {
+		if l := ask(s); !slices.Equal(l, wants[i]) {
+			t.Errorf("P2: the answer for %q is %v, want %v, after answers were written into", s, l, wants[i])
+		}
 	}
 }
 
@@ -239,22 +276,14 @@ func TestNormalIsNewMemory(t *testing.T) {
 		{"b\u1eb7á\u0323", []int{0x62, 0x61, 0x323, 0x301, 0x61, 0x323, 0x301}},
 		{"a\xff\xffb\u1eb7", []int{0x61, 0xfffd, 0xfffd, 0x62, 0x61, 0x323, 0x301}},
 	}
-	var answers [][]int
-	for _, f := range slices.Concat(forms, forms) {
-		l, _ := c.Normal(f.s)
-		answers = append(answers, l)
+	var texts []string
+	for _, f := range forms {
+		texts = append(texts, f.s)
 	}
-	for i, l := range answers {
-		spoil(l)
-		for k := i + 1; k < len(answers); k++ {
-			if want := forms[k%len(forms)].want; !slices.Equal(answers[k], want) {
-				t.Errorf("P2: answer %d is %x, want %x, after answer %d was written into", k, answers[k], want, i)
-			}
-			if slices.Contains(answers[k][:cap(answers[k])], 7) {
-				t.Errorf("P2: the spare room of answer %d is that of answer %d", k, i)
-			}
-		}
-	}
+	checkNewMemory(t, 7, texts, func(s string) []int {
+		l, _ := c.Normal(s)
+		return l
+	})
 	checkNormal(t, "P2: after answers were written into", c, forms)
 	checkNormal(t, "P2: another collator, after answers were written into", other, forms)
 }
@@ -270,7 +299,7 @@ func TestNormalAtATime(t *testing.T) {
 					{"\u0345\u0301\u0323a", []int{0x323, 0x301, 0x345, 0x61}},
 				})
 				l, _ := c.Normal("a\u0301\u0323")
-				spoil(l)
+				spoil(l, 7)
 			}
 		})
 	}
