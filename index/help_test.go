@@ -92,17 +92,70 @@ func entriesOf(words ...string) []api.Entry {
 	return l
 }
 
+func checkScanOf(t *testing.T, promise string, x *Index, handle int, lo string, hi string, limit int, want []api.Entry) {
+	t.Helper()
+	if l, e := x.Scan(handle, lo, hi, limit); !slices.Equal(l, want) || e != api.OK {
+		t.Errorf("%s: Scan(%d, %q, %q, %d) = %q, %d, want %q", promise, handle, lo, hi, limit, l, e, want)
+	}
+}
+
 func checkScan(t *testing.T, promise string, x *Index, lo string, hi string, limit int, want []api.Entry) {
 	t.Helper()
-	if l, e := x.Scan(0, lo, hi, limit); !slices.Equal(l, want) || e != api.OK {
-		t.Errorf("%s: Scan(0, %q, %q, %d) = %q, %d, want %q", promise, lo, hi, limit, l, e, want)
-	}
+	checkScanOf(t, promise, x, 0, lo, hi, limit, want)
 }
 
 // checkAll says keys and values in turn.
 func checkAll(t *testing.T, promise string, x *Index, words ...string) {
 	t.Helper()
 	checkScan(t, promise, x, "", "", api.MaxKeys, entriesOf(words...))
+}
+
+// checkShown is checkAll of a snapshot.
+func checkShown(t *testing.T, promise string, x *Index, handle int, words ...string) {
+	t.Helper()
+	checkScanOf(t, promise, x, handle, "", "", api.MaxKeys, entriesOf(words...))
+}
+
+func checkRefused(t *testing.T, promise string, x *Index, handle int, lo string, hi string, limit int, want api.Errno) {
+	t.Helper()
+	if l, e := x.Scan(handle, lo, hi, limit); len(l) != 0 || e != want {
+		t.Errorf("%s: Scan(%d, %q, %q, %d) = %q, %d, want nothing, %d", promise, handle, lo, hi, limit, l, e, want)
+	}
+}
+
+func checkSnapshot(t *testing.T, promise string, x *Index, want int) {
+	t.Helper()
+	if handle, e := x.Snapshot(); handle != want || e != api.OK {
+		t.Errorf("%s: Snapshot() = %d, %d, want %d", promise, handle, e, want)
+	}
+}
+
+func checkNoSnapshot(t *testing.T, promise string, x *Index) {
+	t.Helper()
+	if handle, e := x.Snapshot(); handle != 0 || e != api.ErrFull {
+		t.Errorf("%s: Snapshot() = %d, %d, want ErrFull", promise, handle, e)
+	}
+}
+
+func checkRelease(t *testing.T, promise string, x *Index, handle int, want api.Errno) {
+	t.Helper()
+	if e := x.Release(handle); e != want {
+		t.Errorf("%s: Release(%d) = %d, want %d", promise, handle, e, want)
+	}
+}
+
+func checkStored(t *testing.T, promise string, x *Index, want int) {
+	t.Helper()
+	if n := x.Stored(); n != want {
+		t.Errorf("%s: Stored() = %d, want %d", promise, n, want)
+	}
+}
+
+func checkLoad(t *testing.T, promise string, x *Index, l []api.Entry, want ...api.Errno) {
+	t.Helper()
+	if got := x.Load(l); !slices.Equal(got, want) {
+		t.Errorf("%s: Load(%q) = %d, want %d", promise, l, got, want)
+	}
 }
 
 func all(t *testing.T, x *Index) []api.Entry {
@@ -129,11 +182,12 @@ func fill(t *testing.T, x *Index, count int) {
 }
 
 // spoil writes into the list, into its spare room, and behind it.
-func spoil(l []api.Entry) {
-	trash := api.Entry{Key: "trash", Value: "trash"}
+func spoil[T any](l []T, trash T) {
 	_ = append(l, trash)
 	whole := l[:cap(l)]
 	for i := range whole {
 		whole[i] = trash
 	}
 }
+
+func trash() api.Entry { return api.Entry{Key: "trash", Value: "trash"} }

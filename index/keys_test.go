@@ -8,22 +8,27 @@ import (
 	"tome/api"
 )
 
-// Example 6, as far as it needs no snapshot.
 func TestExample6(t *testing.T) {
 	x := open(t, exampleTable)
 	checkPut(t, "example 6", x, "\xc3\xa1", "1", api.OK)
 	checkPut(t, "example 6", x, "a\u0301", "2", api.OK)
 	checkAll(t, "example 6", x, "\x61\xcc\x81", "2")
+	checkSnapshot(t, "example 6", x, 1)
 	checkDelete(t, "example 6", x, "\u00e1", true)
 	checkGone(t, "example 6", x, "\u00e1")
 	checkGone(t, "example 6", x, "a\u0301")
 	checkAll(t, "example 6", x)
+	checkScanOf(t, "example 6", x, 1, "", "", 9, entriesOf("\x61\xcc\x81", "2"))
+	checkStored(t, "example 6", x, 1)
+	checkRelease(t, "example 6", x, 1, api.OK)
+	checkStored(t, "example 6", x, 0)
 }
 
 func TestNewIsEmpty(t *testing.T) {
 	for _, o := range allOptions() {
 		x := New(collatorOf(t, exampleTable, o))
 		checkAll(t, "P10", x)
+		checkStored(t, "P10", x, 0)
 		for _, key := range []string{"", "a", "\xff", text(64)} {
 			checkGone(t, "P10", x, key)
 			checkDelete(t, "P10", x, key, false)

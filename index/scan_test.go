@@ -168,13 +168,6 @@ func TestLimits(t *testing.T) {
 	}
 }
 
-func checkRefused(t *testing.T, promise string, x *Index, handle int, lo string, hi string, limit int, want api.Errno) {
-	t.Helper()
-	if l, e := x.Scan(handle, lo, hi, limit); len(l) != 0 || e != want {
-		t.Errorf("%s: Scan(%d, %q, %q, %d) = %q, %d, want nothing, %d", promise, handle, lo, hi, limit, l, e, want)
-	}
-}
-
 func TestScanErrors(t *testing.T) {
 	x := open(t, exampleTable)
 	for _, keys := range [][]string{nil, {"a", "b", text(64)}} {
@@ -225,7 +218,7 @@ func TestAnswersAreNewMemory(t *testing.T) {
 		}
 	}
 	for i, l := range answers {
-		spoil(l)
+		spoil(l, trash())
 		for k := i + 1; k < len(answers); k++ {
 			if !slices.Equal(answers[k], copies[k]) {
 				t.Errorf("P2: answer %d shows what was written into answer %d: %q", k, i, answers[k])
